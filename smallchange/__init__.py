@@ -1,0 +1,1 @@
+"""Whole amounts at desks that change them, for all ways."""

@@ -1,0 +1,31 @@
+"""Boards: the offers by which kinds are changed into one another."""
+
+from smallchange.bounds import MAX_AMOUNT, MAX_KINDS, MAX_OFFERS
+from smallchange.checks import is_within
+
+
+def board_error(value):
+    """None for a board, otherwise where it is wrong and the word for it."""
+    if not isinstance(value, tuple) or len(value) != 2:
+        return None, "board"
+    kinds, offers = value
+    if not is_within(kinds, 1, MAX_KINDS):
+        return None, "kinds"
+    if not isinstance(offers, tuple) or len(offers) > MAX_OFFERS:
+        return None, "offers"
+    for index, offer in enumerate(offers):
+        if not is_offer(kinds, offer):
+            return index, "offer"
+        if index > 0 and offer <= offers[index - 1]:
+            return index, "order"
+    return None
+
+
+def is_offer(kinds, value):
+    """Whether value is an offer of so many kinds."""
+    if not isinstance(value, tuple) or len(value) != 4:
+        return False
+    taken, least, given, worth = value
+    if not is_within(taken, 0, kinds - 1) or not is_within(given, 0, kinds - 1):
+        return False
+    return taken != given and is_within(least, 1, MAX_AMOUNT) and is_within(worth, 0, MAX_AMOUNT)

@@ -1,0 +1,78 @@
+"""What is told of the files: the interface, and the plainest rules of the language."""
+
+import ast
+import importlib
+import inspect
+import os
+import unittest
+
+FOLDER = os.path.join(os.path.dirname(os.path.dirname(os.path.abspath(__file__))), "smallchange")
+INTERFACE = {
+    "boards": {"board_error": ["value"]},
+    "desks": {"desk_error": ["value"], "takes": ["desk", "x"], "gives": ["desk", "x"], "needed_uses": ["desk"],
+              "use_rule": ["desk"], "all_rule": ["desk"], "board_of": ["k", "desks"]},
+    "rules": {"rule_error": ["value"], "canonical": ["table", "period", "rise"], "value_of": ["rule", "x"],
+              "least_for": ["rule", "y"], "sum_of": ["rule", "low", "high"], "first_above": ["one", "other"]},
+    "folds": {"sum_rule": ["one", "other"], "best_rule": ["one", "other"], "then_rule": ["first", "second"],
+              "inverse_rule": ["rule"]},
+    "splits": {"split_rule": ["one", "other"], "star_rule": ["rule"], "star_parts": ["rule", "x"]},
+}
+LIBRARY = ("heapq", "math", "itertools", "collections")
+
+
+def sources():
+    """The names and texts of the files of the package."""
+    for name in sorted(os.listdir(FOLDER)):
+        if name != "__pycache__":
+            with open(os.path.join(FOLDER, name), encoding="utf-8") as file:
+                yield name, file.read()
+
+
+class InterfaceTest(unittest.TestCase):
+    def test_functions_stand_in_their_files(self):
+        for name, functions in INTERFACE.items():
+            module = importlib.import_module("smallchange." + name)
+            for function, parameters in functions.items():
+                found = getattr(module, function)
+                self.assertEqual(found.__module__, "smallchange." + name)
+                self.assertEqual(list(inspect.signature(found).parameters), parameters)
+
+
+class LanguageTest(unittest.TestCase):
+    def test_files(self):
+        for name, text in sources():
+            self.assertRegex(name, "^[a-z_]+[.]py$")
+            lines = text.split("\n")
+            self.assertLessEqual(len(lines), 400, name)
+            self.assertLessEqual(max(len(line) for line in lines), 120, name)
+            self.assertTrue(all(char == "\n" or " " <= char <= "~" for char in text), name)
+
+    def test_functions_are_small(self):
+        for name, text in sources():
+            for node in ast.walk(ast.parse(text)):
+                if isinstance(node, ast.FunctionDef):
+                    self.assertLessEqual(node.end_lineno - node.lineno + 1, 40, (name, node.name))
+                    self.assertEqual(node.decorator_list, [], (name, node.name))
+
+    def test_imports(self):
+        for name, text in sources():
+            for node in ast.walk(ast.parse(text)):
+                self.assertNotIsInstance(node, ast.Import, name)
+                if isinstance(node, ast.ImportFrom):
+                    self.assertTrue(node.module.startswith("smallchange.") or node.module in LIBRARY, name)
+                    self.assertFalse(any(alias.name == "*" or alias.asname for alias in node.names), name)
+
+    def test_no_floats_and_no_state(self):
+        for name, text in sources():
+            tree = ast.parse(text)
+            for node in ast.walk(tree):
+                self.assertNotIsInstance(node, (ast.Div, ast.Global, ast.AsyncFunctionDef, ast.SetComp), name)
+                if isinstance(node, ast.Constant):
+                    self.assertNotIsInstance(node.value, (float, complex), name)
+                    self.assertFalse(isinstance(node.value, str) and "%" in node.value, name)
+            kinds = (ast.Expr, ast.ImportFrom, ast.FunctionDef, ast.ClassDef, ast.Assign)
+            self.assertTrue(all(isinstance(node, kinds) for node in tree.body), name)
+
+
+if __name__ == "__main__":
+    unittest.main()
