@@ -3,8 +3,7 @@
 from math import gcd
 
 from smallchange.errors import NoRise
-from smallchange.rules import begin_of, check_told, common_turn, least_for, rise_in
-from smallchange.rules import told, value_of, values_to
+from smallchange.rules import begin_of, check_told, common_turn, least_for, rise_in, told, value_of, values_to
 
 
 def sum_rule(one, other):

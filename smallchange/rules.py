@@ -88,7 +88,7 @@ def values_to(rule, count):
     """The list of the values at all x less than count."""
     table, period, rise = rule
     values = list(table[:count])
-    for x in range(len(values), count):
+    for x in range(len(table), count):
         values.append(values[x - period] + rise)
     return values
 

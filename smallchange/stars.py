@@ -63,11 +63,10 @@ class LongPart:
 
 
 def best_part(parts):
-    """The least of the parts (size, worth) with the most worth by size."""
+    """The least part (size, worth) with the most worth by size; parts ascend."""
     best = parts[0]
     for part in parts:
-        ahead = part[1] * best[0] - best[1] * part[0]
-        if ahead > 0 or (ahead == 0 and part[0] < best[0]):
+        if part[1] * best[0] > best[1] * part[0]:
             best = part
     return best
 
@@ -134,12 +133,13 @@ def last_unlike(rule, ends):
         return late
     singles = [table[min(x, begin_of(rule) - 1)] for x in range(known)]
     sums = stack(singles, begin_of(rule))[0]
-    for x in reversed(range(known)):
-        loss = rise * x - period * sums[x]
-        end = ends[x % period]
-        if loss < end[0] or (x < end[1] and loss > end[0]):
-            return x
-    return -1
+    losses = [rise * x - period * sums[x] for x in range(known)]
+    return max([x for x in range(known) if is_unlike(x, losses[x], ends[x % period])])
+
+
+def is_unlike(x, loss, end):
+    """Whether x does not lose what its end does, if small parts lose loss."""
+    return loss < end[0] or (x < end[1] and loss > end[0])
 
 
 def last_cheaper(period, rise, ends, small):
@@ -184,7 +184,7 @@ def stacked_parts(singles, limit, x):
     while x > 0:
         part = x
         if sums[x] != singles[x]:
-            part = [size for size, worth in kept if size < x and sums[x - size] + worth == sums[x]][0]
+            part = min([size for size, worth in kept if size < x and sums[x - size] + worth == sums[x]])
         times[part] = times.get(part, 0) + 1
         x -= part
     return times

@@ -1,10 +1,11 @@
 import unittest
+from unittest import mock
 
 from plain import Unchanged, is_integer, odd_values, plain_desk, plain_gives, plain_takes, plain_values, replaced
 from plain import seeded, some_desk
 from smallchange.boards import board_error
 from smallchange.desks import all_rule, board_of, desk_error, gives, needed_uses, takes, use_rule
-from smallchange.errors import TooGreat, TooMany
+from smallchange.errors import TooGreat, TooLong, TooMany
 from smallchange.rules import rule_error, value_of
 from smallchange.splits import star_rule
 
@@ -191,6 +192,19 @@ class UsesTest(unittest.TestCase):
         for _ in range(200):
             desk = some_desk(rng)
             self.assertEqual(all_rule(desk), star_rule(use_rule(desk)), desk)
+
+    def test_numbers_are_those_of_the_tables(self):
+        rng = seeded(36)
+        for number in range(300):
+            desk = some_desk(rng, 30, 30) if number % 3 == 0 else some_desk(rng)
+            for call in (use_rule, all_rule):
+                count = len(call(desk)[0])
+                with mock.patch("smallchange.rules.MAX_TOLD", count - 1):
+                    with self.assertRaises(TooLong) as caught:
+                        call(desk)
+                    self.assertEqual(caught.exception.number, count)
+                with mock.patch("smallchange.rules.MAX_TOLD", count):
+                    self.assertEqual(len(call(desk)[0]), count)
 
     def test_uses_are_uses(self):
         for desk in [(0, 1, 29, 30, "down", 17, 1, None), (0, 1, 29, 30, "near", 17, 13, 900)]:

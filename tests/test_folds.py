@@ -1,9 +1,11 @@
 import unittest
+from unittest import mock
 
 from plain import BIG, Unchanged, plain_values, seeded, some_rule
 from smallchange.errors import NoRise, TooLong
 from smallchange.folds import best_rule, inverse_rule, sum_rule, then_rule
 from smallchange.rules import canonical, least_for, rule_error, value_of
+from smallchange.splits import split_rule
 
 LONG = (tuple(x * x for x in range(200)), 40, 10 ** 12 - 1)
 SLOW = ((0,) * 40, 40, 1)
@@ -183,6 +185,21 @@ class TooLongTest(FoldTest):
                 self.too_long(begin + turn, inverse_rule, rule)
             else:
                 self.assertEqual(len(inverse_rule(rule)[0]), begin + turn)
+
+    def test_numbers_are_those_of_the_tables(self):
+        # with a lesser bound the number is told, whatever it is
+        rng = seeded(16)
+        for _ in range(400):
+            one, other = canonical(*some_rule(rng)), canonical(*some_rule(rng))
+            calls = [(call, one, other) for call in (sum_rule, best_rule, then_rule, split_rule)]
+            if one[2] > 0:
+                calls.append((inverse_rule, one))
+            for call, *rules in calls:
+                count = len(call(*rules)[0])
+                with mock.patch("smallchange.rules.MAX_TOLD", count - 1):
+                    self.too_long(count, call, *rules)
+                with mock.patch("smallchange.rules.MAX_TOLD", count):
+                    self.assertEqual(len(call(*rules)[0]), count)
 
     def test_no_rise_comes_first(self):
         self.assertRaises(NoRise, inverse_rule, (tuple(range(200)), 1, 0))

@@ -1,4 +1,5 @@
 import unittest
+from unittest import mock
 
 from plain import BIG, Unchanged, plain_split, plain_star, plain_values, seeded, some_rule
 from smallchange.errors import NoStart, TooLong
@@ -178,6 +179,16 @@ class StarTest(SplitCase):
         for x in list(range(40)) + [BIG, BIG - 1, BIG - 2]:
             self.parts_hold(rule, star, x)
 
+    def test_no_best_part_and_a_shorter_period(self):
+        # from 4 and 6 the odd amounts come by 1 alike, though 5 and 7 are not alike
+        rule = ((0, 17, 34, 51, 79, 95, 119, 130), 4, 80)
+        self.assertIsNone(rule_error(rule))
+        star = star_rule(rule)
+        self.assertEqual(star[1:], (2, 40))
+        self.holds(star, plain_star(plain_values(rule, 200)))
+        with mock.patch("smallchange.rules.MAX_TOLD", 0):
+            self.too_long(len(star[0]), star_rule, rule)
+
     def test_flat(self):
         zero = ((0,), 1, 0)
         self.assertEqual(star_rule(zero), zero)
@@ -246,6 +257,23 @@ class StarTest(SplitCase):
         begin = max([x for x in range(80000) if sums[x + 199] != sums[x] + gain]) + 1
         self.too_long(begin + 199, star_rule, rule)
         self.too_long(begin + 199, star_parts, rule, 0)
+
+    def test_numbers_are_those_of_the_tables(self):
+        # with a bound of 0 the number is told, whatever it is
+        rng = seeded(29)
+        longest = 0
+        for number in range(1500):
+            rule = some_losing_rule(rng) if number % 2 == 0 else canonical(*some_rule(rng, 14, 20, 0))
+            count = len(star_rule(rule)[0])
+            longest = max(longest, count)
+            with mock.patch("smallchange.rules.MAX_TOLD", 0):
+                self.too_long(count, star_rule, rule)
+                self.too_long(count, star_parts, rule, number)
+            with mock.patch("smallchange.rules.MAX_TOLD", count - 1):
+                self.too_long(count, star_rule, rule)
+            with mock.patch("smallchange.rules.MAX_TOLD", count):
+                self.assertEqual(len(star_rule(rule)[0]), count)
+        self.assertGreater(longest, 100)
 
     def test_medium_numbers_by_the_definition(self):
         # the loss of long parts makes the star late; of all but one part bounded sizes are enough
