@@ -16,6 +16,14 @@ INTERFACE = {
     "folds": {"sum_rule": ["one", "other"], "best_rule": ["one", "other"], "then_rule": ["first", "second"],
               "inverse_rule": ["rule"]},
     "splits": {"split_rule": ["one", "other"], "star_rule": ["rule"], "star_parts": ["rule", "x"]},
+    "ways": {"walk": ["board", "purse", "way"], "need_of": ["board", "way"], "change_of": ["board", "way"]},
+    "covers": {"cover": ["board", "purse"], "cover_holds": ["board", "purse", "value"],
+               "reach": ["board", "purse", "goal"], "reach_holds": ["board", "purse", "goal", "value"],
+               "most": ["board", "purse", "kind"], "most_holds": ["board", "purse", "kind", "value"],
+               "fewest_uses": ["board", "purse", "goal"], "shortest_way": ["board", "purse", "goal"]},
+    "prices": {"worths": ["board"], "worths_hold": ["board", "value"], "loop_purse": ["board", "indexes"],
+               "leads": ["board", "one", "other"], "ratio": ["board", "one", "other"],
+               "best_trail": ["board", "one", "other"]},
 }
 LIBRARY = ("heapq", "math", "itertools", "collections")
 
