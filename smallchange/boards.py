@@ -1,6 +1,6 @@
 """Boards: the offers by which kinds are changed into one another."""
 
-from smallchange.bounds import MAX_AMOUNT, MAX_KINDS, MAX_OFFERS
+from smallchange.bounds import MAX_AMOUNT, MAX_KINDS, MAX_OFFERS, MAX_PURSE
 from smallchange.checks import is_within
 
 
@@ -29,3 +29,10 @@ def is_offer(kinds, value):
     if not is_within(taken, 0, kinds - 1) or not is_within(given, 0, kinds - 1):
         return False
     return taken != given and is_within(least, 1, MAX_AMOUNT) and is_within(worth, 0, MAX_AMOUNT)
+
+
+def is_purse(kinds, value):
+    """Whether value is a purse of a board of so many kinds."""
+    if not isinstance(value, tuple) or len(value) != kinds:
+        return False
+    return all([is_within(amount, 0, MAX_PURSE) for amount in value])

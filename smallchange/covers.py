@@ -99,7 +99,7 @@ def shortest_indexes(board, purse, goal):
     tree = Tree(board, purse)
     if not tree.has(goal):
         return None
-    indexes = Search(tree, purse, goal).shortest()
+    indexes = Search(tree, purse, [goal]).shortest()
     if indexes is None:
         raise TooMany()
     return indexes

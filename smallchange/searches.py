@@ -5,15 +5,15 @@ from smallchange.generals import Shelf, outcome, runs_on
 
 
 class Side:
-    """One end of a search, and what is come to from there, turn by turn.
+    """One end of a search, and what is come to from its starts, turn by turn.
 
     steps tells from which purse, and by which offer, each one is come to.
     Those of use are kept: all of them in kept, those of the last turn in
     front, and on the shelf what tells whether one more is of use.
     """
 
-    def __init__(self, kinds, start):
-        self.steps = {start: None}
+    def __init__(self, kinds, starts):
+        self.steps = {start: None for start in starts}
         self.shelf = Shelf(kinds)
         self.kept = []
         self.front = []
@@ -35,7 +35,7 @@ class Side:
                 self.front.append(purse)
 
     def trail(self, purse):
-        """The indexes of the offers from the purse back to the start."""
+        """The indexes of the offers from the purse back to a start."""
         indexes = []
         while self.steps[purse] is not None:
             purse, index = self.steps[purse]
@@ -44,22 +44,22 @@ class Side:
 
 
 class Search:
-    """A search for the shortest way from a purse to a goal.
+    """A search for the shortest way from a purse to one of some goals.
 
     It goes on from the purse to purses that lie under no earlier ones, and
-    back from the goal to needs over no earlier ones: to the least purses from
-    which so many uses lead to the goal.
+    back from the goals to needs over no earlier ones: to the least purses from
+    which so many uses lead to a goal.
     """
 
-    def __init__(self, tree, purse, goal):
+    def __init__(self, tree, purse, goals):
         self.tree = tree
         self.offers = tree.board[1]
         # no need has more of a kind; what a need lacks to this is shelved, so that the least stand highest
-        self.top = max(goal) + MAX_USES * max([offer[1] for offer in self.offers], default=0)
-        self.ahead = Side(len(purse), purse)
-        self.behind = Side(len(goal), goal)
+        self.top = max([max(goal) for goal in goals]) + MAX_USES * max([offer[1] for offer in self.offers], default=0)
+        self.ahead = Side(len(purse), [purse])
+        self.behind = Side(len(purse), goals)
         self.keep_ahead([purse])
-        self.keep_behind([goal])
+        self.keep_behind(goals)
 
     def shortest(self):
         """The indexes of the offers of a shortest way, or None for more than MAX_USES."""
@@ -95,7 +95,7 @@ class Search:
         self.keep_ahead(found)
 
     def go_back(self):
-        """A turn from the goal: one more use ahead of it."""
+        """A turn from the goals: one more use ahead of them."""
         found = []
         for need in self.behind.front:
             for index, offer in enumerate(self.offers):

@@ -24,6 +24,18 @@ INTERFACE = {
     "prices": {"worths": ["board"], "worths_hold": ["board", "value"], "loop_purse": ["board", "indexes"],
                "leads": ["board", "one", "other"], "ratio": ["board", "one", "other"],
                "best_trail": ["board", "one", "other"]},
+    "rich": {"weights": ["board", "kind"], "losses": ["board", "kind"], "order": ["board", "kind"],
+             "is_one_class": ["board", "kind", "one", "other"], "lack": ["board", "kind", "purse"],
+             "bound": ["board", "kind", "purse"], "rich_way": ["board", "kind", "purse"], "lacks": ["board", "kind"],
+             "lacks_hold": ["board", "kind", "value"]},
+    "gains": {"back_kinds": ["board", "kind"], "gain_from": ["board", "a", "x"],
+              "gain_holds": ["board", "a", "x", "value"], "least_gain": ["board", "a"], "shortest_gain": ["board", "a"],
+              "stair": ["board", "a", "b"]},
+    "amounts": {"amount_rule": ["board", "a", "c"], "amount_way": ["board", "a", "c", "x"],
+                "least_amount": ["board", "a", "c", "y"], "endless_from": ["board", "a", "c"],
+                "first_unlike": ["one", "other", "a", "c"], "idle_offers": ["board", "a", "c"]},
+    "texts": {"board_text": ["names", "board"], "parse_board": ["value"], "way_text": ["way"], "parse_way": ["value"],
+              "purse_text": ["names", "purse"], "parse_purse": ["names", "value"]},
 }
 LIBRARY = ("heapq", "math", "itertools", "collections")
 
