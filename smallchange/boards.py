@@ -1,7 +1,10 @@
 """Boards: the offers by which kinds are changed into one another."""
 
-from smallchange.bounds import MAX_AMOUNT, MAX_KINDS, MAX_OFFERS, MAX_PURSE
+from smallchange.bounds import MAX_AMOUNT, MAX_KINDS, MAX_OFFERS, MAX_PURSE, MAX_SMALL
 from smallchange.checks import is_within
+
+SMALL_KINDS = 3
+SMALL_OFFERS = 12
 
 
 def board_error(value):
@@ -36,3 +39,11 @@ def is_purse(kinds, value):
     if not isinstance(value, tuple) or len(value) != kinds:
         return False
     return all([is_within(amount, 0, MAX_PURSE) for amount in value])
+
+
+def is_small(board):
+    """Whether the board is small."""
+    kinds, offers = board
+    if kinds > SMALL_KINDS or len(offers) > SMALL_OFFERS:
+        return False
+    return all([x <= MAX_SMALL and y <= MAX_SMALL for _, x, _, y in offers])

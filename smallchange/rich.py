@@ -118,9 +118,8 @@ def mending_runs(classes, rest):
 
 def last_offers(classes):
     """Pairs (index, offer) of a tight offer for each kind but the goal, those farther off first."""
-    indexes = [classes.trails[kind] for kind in classes.places]
-    indexes = sorted(indexes, key=len, reverse=True)
-    return [(trail[0], classes.board[1][trail[0]]) for trail in indexes]
+    trails = sorted([classes.trails[kind] for kind in classes.places], key=len, reverse=True)
+    return [(trail[0], classes.board[1][trail[0]]) for trail in trails]
 
 
 def last_runs(classes, rest):
@@ -130,10 +129,10 @@ def last_runs(classes, rest):
         amounts[kind] = amount
     runs = []
     for index, (a, x, b, y) in last_offers(classes):
+        # of each of these kinds a rich purse has at least 30 left, so times is not 0
         times = amounts[a] // x
-        if times > 0:
-            runs.append((index, times))
-            amounts[b] += times * y
+        runs.append((index, times))
+        amounts[b] += times * y
     return runs
 
 

@@ -37,6 +37,29 @@ INTERFACE = {
     "texts": {"board_text": ["names", "board"], "parse_board": ["value"], "way_text": ["way"], "parse_way": ["value"],
               "purse_text": ["names", "purse"], "parse_purse": ["names", "value"]},
 }
+# each class with its arguments, and its methods with theirs, self left out
+CLASSES = {
+    "values": {
+        "Purse": (["amounts"], {"covers": ["other"], "__add__": ["other"], "__sub__": ["other"], "__mul__": ["other"],
+                                "__getitem__": 1, "__contains__": 1, "__len__": 0, "__str__": 0, "__eq__": 1,
+                                "__iter__": 0}),
+        "Rule": (["value"], {"is_below": ["other"], "is_above": ["other"], "of": ["table", "period", "rise"],
+                             "__call__": ["x"], "__add__": ["other"], "__or__": ["other"], "__rshift__": ["other"],
+                             "__xor__": ["other"], "__len__": 0, "__str__": 0, "__eq__": 1, "__iter__": 0}),
+    },
+    "promises": {"Reserve": (["kind", "least"], {"spare": ["amount"]})},
+    "tills": {
+        "Till": (["board", "purse"], {
+            "use": ["index", "times"], "add": ["a", "x", "b", "y"], "drop": ["index"], "give": ["kind", "amount"],
+            "take": ["kind", "amount"], "undo": [], "attempt": ["edits", "watch"], "most": ["kind"],
+            "state": ["version"], "each_offer": ["version"], "edits": [], "__len__": 0, "__str__": 0, "__eq__": 1}),
+        "SureTill": (["board", "purse", "kind", "least"], {}),
+    },
+    "consoles": {"Console": (["till"], {"execute": ["line"]})},
+}
+ATTRIBUTES = {"Purse": ["amounts"], "Rule": ["value", "table", "period", "rise"], "Reserve": ["kind", "least"],
+              "Till": ["board", "purse", "loop"], "SureTill": ["board", "purse", "loop", "reserve"]}
+BY_KEYWORD = {("attempt", "watch"): None, ("state", "version"): None, ("each_offer", "version"): None}
 LIBRARY = ("heapq", "math", "itertools", "collections")
 
 
@@ -56,6 +79,41 @@ class InterfaceTest(unittest.TestCase):
                 found = getattr(module, function)
                 self.assertEqual(found.__module__, "smallchange." + name)
                 self.assertEqual(list(inspect.signature(found).parameters), parameters)
+
+
+    def test_classes_stand_in_their_files(self):
+        for name, classes in CLASSES.items():
+            module = importlib.import_module("smallchange." + name)
+            for told, (arguments, methods) in classes.items():
+                found = getattr(module, told)
+                self.assertEqual(found.__module__, "smallchange." + name)
+                self.assertEqual(list(inspect.signature(found).parameters), arguments)
+                for method, parameters in methods.items():
+                    # in the class itself, not only in a base class
+                    self.assertIn(method, vars(found), told)
+                    got = list(inspect.signature(getattr(found, method)).parameters)[0 if method == "of" else 1:]
+                    if isinstance(parameters, int):
+                        self.assertEqual(len(got), parameters)
+                    else:
+                        self.assertEqual(got, parameters)
+
+    def test_arguments_by_keyword(self):
+        till = importlib.import_module("smallchange.tills").Till
+        for (method, argument), default in BY_KEYWORD.items():
+            told = inspect.signature(getattr(till, method)).parameters[argument]
+            self.assertEqual((told.kind, told.default), (inspect.Parameter.KEYWORD_ONLY, default))
+
+    def test_attributes_are_set_at_once(self):
+        tills = importlib.import_module("smallchange.tills")
+        values = importlib.import_module("smallchange.values")
+        promises = importlib.import_module("smallchange.promises")
+        board = (2, ((0, 2, 1, 4),))
+        for made in [values.Purse((1,)), values.Rule(((0,), 1, 0)), values.Rule.of((0,), 1, 0), promises.Reserve(0, 0),
+                     tills.Till(board, (0, 0)), tills.SureTill(board, (0, 0), 0, 0)]:
+            for attribute in ATTRIBUTES[type(made).__name__]:
+                self.assertIn(attribute, vars(made))
+        self.assertEqual(vars(tills.Till)["MOST_EDITS"], 60)
+        self.assertTrue(issubclass(tills.SureTill, tills.Till))
 
 
 class LanguageTest(unittest.TestCase):
