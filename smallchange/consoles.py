@@ -38,10 +38,9 @@ class Console:
 
     def answer(self, name, numbers):
         """The answer to a command; errors of the till."""
-        if name in EDITS:
-            return f"ok {self.till.do_edit((name, *numbers))}"
-        if name == "undo":
-            return f"ok {self.till.undo()}"
+        if name in EDITS or name == "undo":
+            version = self.till.undo() if name == "undo" else self.till.do_edit((name, *numbers))
+            return f"ok {version}"
         if name == "rows":
             return ", ".join([spaced(offer) for offer in self.till.board[1]]) or "none"
         if name == "purse":

@@ -1,8 +1,7 @@
 """Reading texts from left to right, up to the first place with which no text goes on."""
 
 from smallchange.errors import BadText
-
-DIGITS = "0123456789"
+from smallchange.words import DIGITS
 
 
 class Reader:
@@ -36,7 +35,7 @@ class Reader:
             self.check(self.is_at(char))
             self.place += 1
 
-    def number(self, low, high):
+    def integer(self, low, high):
         """Reads and returns an integer from low to high, without leading zeros."""
         self.check(not self.is_at_end() and self.text[self.place] in DIGITS)
         self.check(low == 0 or not self.is_at("0"))

@@ -4,7 +4,7 @@ from math import lcm
 
 from smallchange.errors import NoStart
 from smallchange.folds import best_rule
-from smallchange.rules import begin_of, check_told, common_turn, shortest, told, value_of, values_to
+from smallchange.rules import begin_of, check_told, common_turn, shortest, told, values_to
 from smallchange.stars import BestPart, LongPart, best_part, stack, stacked_parts
 
 

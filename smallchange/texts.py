@@ -71,11 +71,11 @@ def read_offer(reader, names):
     """The offer in a line."""
     # with one kind there are no offers
     reader.check(len(names) > 1)
-    x = reader.number(1, MAX_AMOUNT)
+    x = reader.integer(1, MAX_AMOUNT)
     reader.word(" ")
     a = reader.one_of(names)
     reader.word(" -> ")
-    y = reader.number(0, MAX_AMOUNT)
+    y = reader.integer(0, MAX_AMOUNT)
     reader.word(" ")
     b = reader.one_of([name for name in names if name != a])
     reader.end()
@@ -122,7 +122,7 @@ def runs_in(step):
 
 def read_step(reader, count):
     """A run or a round, behind steps with count runs."""
-    number = reader.number(0, MAX_TIMES)
+    number = reader.integer(0, MAX_TIMES)
     if number == 0 or not reader.is_at("*"):
         return number_run(reader, number)
     reader.word("*(")
@@ -137,7 +137,7 @@ def read_step(reader, count):
 
 def read_run(reader):
     """A run."""
-    return number_run(reader, reader.number(0, MAX_OFFERS - 1))
+    return number_run(reader, reader.integer(0, MAX_OFFERS - 1))
 
 
 def number_run(reader, index):
@@ -146,7 +146,7 @@ def number_run(reader, index):
     if not reader.is_at("x"):
         return index, 1
     reader.word("x")
-    return index, reader.number(2, MAX_TIMES)
+    return index, reader.integer(2, MAX_TIMES)
 
 
 def purse_text(names, purse):
@@ -169,7 +169,7 @@ def parse_purse(names, value):
         if first > 0:
             reader.check(first < len(names))
             reader.word(" ")
-        amount = reader.number(1, MAX_TOLD_AMOUNT)
+        amount = reader.integer(1, MAX_TOLD_AMOUNT)
         reader.word(" ")
         kind = names.index(reader.one_of(names[first:]))
         amounts[kind] = amount

@@ -38,7 +38,7 @@ class Purse:
         return is_offer(len(self.amounts), x) and self.amounts[x[0]] >= x[1]
 
     def __str__(self):
-        return spaced(self.amounts)
+        return " ".join([str(amount) for amount in self.amounts])
 
     def __add__(self, other):
         check_kinds(self, other)
