@@ -301,6 +301,10 @@ class WayTextTest(TextCase):
         self.bad(0, len(text) - 1, parse_way, text[:-1] + " 5)")
         self.bad(0, len(text) - 1, parse_way, text[:-1])
         self.bad(0, len(text) - 1, parse_way, text[:-1] + " ")
+        text = way_text(((((5, 1),) * 200, 7),))
+        self.assertEqual(parse_way(text), ((((5, 1),) * 200, 7),))
+        self.bad(0, len(text) - 1, parse_way, text[:-1] + " 5)")
+        self.bad(0, len(text), parse_way, text + " 5")
         # texts of ways in results can have more runs, and are too long
         long = way_text(((5, 12), (6, 1)) * 50000)
         self.bad(0, len("5x12 6 " * 100) - 1, parse_way, long)
